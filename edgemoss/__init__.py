@@ -1,0 +1,1 @@
+"""Edgemoss: shapes of cells, eaten and grown by told pieces."""
