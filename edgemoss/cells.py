@@ -24,3 +24,10 @@ def cell_less(cell, step):
 
 def rising(cells):
     return tuple(sorted(set(cells)))
+
+
+def all_sums(one, other):
+    sums = []
+    for step in other:
+        sums.extend([cell_moved(cell, step) for cell in one])
+    return rising(sums)
