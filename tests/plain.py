@@ -1,6 +1,9 @@
 """A plain reckoning of the tests' own, cell by cell, and what is handed in by several tests."""
 
+import itertools
 import random
+
+from edgemoss.plans import Both, Eat, Either, Everything, Grow, Keep, Move, Nothing
 
 BOUND = 10 ** 12
 FAR = [(BOUND, BOUND), (-BOUND, -BOUND), (BOUND, 0), (0, -BOUND), (123456, -654321)]
@@ -94,3 +97,117 @@ def in_closed(shape, piece, cell):
 def square(rows, columns, stride=1):
     """So many rows and columns of cells, rising."""
     return tuple((r * stride, c * stride) for r in range(rows) for c in range(columns))
+
+
+def sums(one, other):
+    return tuple(sorted({plus(a, b) for a in one for b in other}))
+
+
+def against_nought(steps):
+    return tuple(sorted((-row, -column) for row, column in steps))
+
+
+def sets_within(steps):
+    """All sets of these steps, the smaller ones first, each a rising tuple."""
+    steps = sorted(set(steps))
+    return [some for many in range(len(steps) + 1) for some in itertools.combinations(steps, many)]
+
+
+def spread(many, stride):
+    """So many steps in a row of steps, far from one another."""
+    return tuple((0, k * stride) for k in range(many))
+
+
+def kind_of(plan):
+    return type(plan).__name__
+
+
+def comes_out(plan, shape, cell):
+    """Whether the cell is in what the plan makes of the shape, by the words of 5.1 alone."""
+    kind = kind_of(plan)
+    if kind == "Keep":
+        return holds(shape, cell)
+    if kind in ("Nothing", "Everything"):
+        return kind == "Everything"
+    if kind == "Move":
+        return comes_out(plan.plan, shape, minus(cell, plan.step))
+    if kind == "Eat":
+        return all(comes_out(plan.plan, shape, plus(cell, step)) for step in plan.piece)
+    if kind == "Grow":
+        return any(comes_out(plan.plan, shape, minus(cell, step)) for step in plan.piece)
+    sides = [comes_out(plan.one, shape, cell), comes_out(plan.other, shape, cell)]
+    return all(sides) if kind == "Both" else any(sides)
+
+
+def reach_in(plan):
+    """The reach by the words of 5.7 alone, refusing nothing."""
+    kind = kind_of(plan)
+    if kind == "Keep":
+        return ((0, 0),)
+    if kind in ("Nothing", "Everything"):
+        return ()
+    if kind == "Move":
+        return sums(reach_in(plan.plan), against_nought([plan.step]))
+    if kind in ("Eat", "Grow"):
+        return sums(reach_in(plan.plan), plan.piece if kind == "Eat" else against_nought(plan.piece))
+    return tuple(sorted(set(reach_in(plan.one)) | set(reach_in(plan.other))))
+
+
+def plans_in(plan):
+    """The plan and all within it, each as often as it stands there."""
+    kind = kind_of(plan)
+    if kind in ("Keep", "Nothing", "Everything"):
+        return [plan]
+    if kind in ("Both", "Either"):
+        return [plan] + plans_in(plan.one) + plans_in(plan.other)
+    return [plan] + plans_in(plan.plan)
+
+
+def text_of(plan):
+    """5.9 word by word."""
+    kind = kind_of(plan)
+    if kind in ("Keep", "Nothing", "Everything"):
+        return {"Keep": "keep", "Nothing": "none", "Everything": "all"}[kind]
+    if kind == "Move":
+        return "move %d %d %s" % (plan.step[0], plan.step[1], text_of(plan.plan))
+    if kind in ("Both", "Either"):
+        return "%s %s %s" % (kind.lower(), text_of(plan.one), text_of(plan.other))
+    steps = "".join(" %d %d" % step for step in plan.piece)
+    return "%s %d%s %s" % (kind.lower(), len(plan.piece), steps, text_of(plan.plan))
+
+
+def some_plan(dice, many, deep, most, span):
+    """A plan with at most so many in it, at most so deep; pieces with at most so many steps, so far away."""
+    if many == 1 or deep == 1:
+        return dice.choice([Keep(), Keep(), Keep(), Keep(), Keep(), Nothing(), Everything()])
+    kind = dice.choice([Move, Eat, Eat, Grow, Grow, Both, Either])
+    if kind in (Both, Either) and many > 2:
+        ahead = dice.randint(1, many - 2)
+        rest = many - 1 - ahead
+        return kind(some_plan(dice, ahead, deep - 1, most, span), some_plan(dice, rest, deep - 1, most, span))
+    inner = some_plan(dice, many - 1, deep - 1, most, span)
+    if kind in (Eat, Grow):
+        return kind(some_cells(dice, dice.randint(1, most), span), inner)
+    return Move((dice.randint(-span, span), dice.randint(-span, span)), inner)
+
+
+def some_plans(seed, count, many=6, deep=5, most=3, span=1):
+    dice = random.Random(seed)
+    return [some_plan(dice, dice.randint(1, many), deep, most, span) for _ in range(count)]
+
+
+PAIR = ((0, 0), (0, 1))
+CORNER = ((-1, 2), (0, 0), (3, -1))
+
+
+def each_kind(inner=Keep()):
+    """A plan of each of the eight kinds, put together with the inner one."""
+    return [
+        Keep(), Nothing(), Everything(), Move((2, -3), inner), Eat(CORNER, inner), Grow(CORNER, inner),
+        Both(inner, Move((0, 1), inner)), Either(Grow(PAIR, inner), inner),
+    ]
+
+
+def put_together():
+    """Each kind of plan within each kind."""
+    return each_kind() + [plan for inner in each_kind() for plan in each_kind(inner)]

@@ -48,6 +48,8 @@ EXPRESSIONS = (
 )
 WALKED = set("zip enumerate reversed range items keys values".split())
 WALKERS = set("list tuple dict sorted sum any all enumerate zip min max".split())
+OF_VALUES = set().union(*[dir(kind) for kind in (str, int, list, dict, set, bytes, tuple, bool)])
+VALUE_NAMES = set("count index title find get join lower upper split strip copy add".split())
 KEYWORDS = {
     "sorted": {"key", "reverse"}, "min": {"key", "default"}, "max": {"key", "default"},
     "sum": {"start"}, "enumerate": {"start"}, "zip": {"strict"},
@@ -83,13 +85,14 @@ def called_method(node):
 
 
 class Checked:
-    """The faults of one file: a list of (rule, line)."""
+    """The faults of one file: a list of (rule, line); own_methods are those of the package's other files."""
 
-    def __init__(self, name, text):
+    def __init__(self, name, text, own_methods):
         self.name = name
         self.text = text
         self.faults = []
         self.tree = ast.parse(text)
+        self.own_methods = methods_of(self.tree) | own_methods
         self.parents = {}
         for node in ast.walk(self.tree):
             for child in ast.iter_child_nodes(node):
@@ -198,6 +201,8 @@ class Checked:
         names = [part.name for part in node.body if isinstance(part, ast.FunctionDef)]
         if len(set(names)) != len(names):
             self.fault("L18", node)
+        if any(name in OF_VALUES - METHODS - {"add", "discard"} - set(TWO_UNDERSCORES) for name in names):
+            self.fault("L26", node)
 
     def check_name(self, name, node, is_method=False):
         if name in TWO_UNDERSCORES and is_method:
@@ -304,7 +309,22 @@ class Checked:
         else:
             self.check_local(node.id, node)
 
+    def is_class(self, name):
+        return name in self.classes or name in self.imports and re.match(r"[A-Z][A-Za-z]*[a-z]", name) is not None
+
+    def check_class(self, node):
+        """A class is called, is a base, or stands by isinstance, except or raise."""
+        around = self.parents[node]
+        if isinstance(around, ast.Tuple):
+            around = self.parents[around]
+        is_call = isinstance(around, ast.Call) and (around.func is node or called(around) == "isinstance")
+        is_init = isinstance(around, ast.Attribute) and around.attr == "__init__"
+        if not is_call and not is_init and not isinstance(around, (ast.ClassDef, ast.ExceptHandler)):
+            self.fault("L18", node)
+
     def check_read(self, node):
+        if self.is_class(node.id):
+            self.check_class(node)
         known = OWN_OF_PYTHON | set(self.functions + self.classes + self.imports + self.values)
         if node.id in NO_NAMES:
             self.fault("L17", node)
@@ -322,6 +342,16 @@ class Checked:
             self.fault("L17", node)
         if node.attr.startswith("_") and node.attr != "__init__":
             self.fault("L8", node)
+        around = self.parents[node]
+        is_called = isinstance(around, ast.Call) and around.func is node
+        is_key = isinstance(around, ast.keyword) and around.arg == "key"
+        if isinstance(node.ctx, ast.Store):
+            if node.attr in OF_VALUES - VALUE_NAMES:
+                self.fault("L26", node)
+            if not isinstance(node.value, ast.Name) or self.is_class(node.value.id):
+                self.fault("L18", node)
+        elif node.attr in METHODS | self.own_methods and not is_called and not is_key:
+            self.fault("L25", node)
 
     def see_call(self, node):
         name, method = called(node), called_method(node)
@@ -329,8 +359,7 @@ class Checked:
             self.fault("L22", node)
         if any(isinstance(part, ast.Starred) for part in node.args) or any(w.arg is None for w in node.keywords):
             self.fault("L7", node)
-        # An own class may have methods of its own; the package has none yet but __init__.
-        if method is not None and method not in METHODS and method != "__init__":
+        if method is not None and method not in METHODS | self.own_methods | {"__init__"}:
             self.fault("L25", node)
         if name in ("set", "frozenset"):
             self.check_set_call(node)
@@ -355,8 +384,8 @@ class Checked:
         self.fault("L23", node)
 
 
-def file_faults(name, text):
-    return Checked(name, text).faults
+def file_faults(name, text, own_methods=frozenset()):
+    return Checked(name, text, own_methods).faults
 
 
 def drawn(tree):
@@ -475,6 +504,9 @@ SPOILT = [
     ("L17", "def f(x):\n    return x.elements\n"),
     ("L18", "class A(AttributeError):\n    pass\n"),
     ("L18", "class A:\n    def f(self):\n        pass\n\n    def f(self):\n        pass\n"),
+    ("L18", "class A:\n    pass\n\n\ndef f(x):\n    return [A]\n"),
+    ("L18", "from edgemoss.plans import Keep\n\n\ndef f(x):\n    return Keep\n"),
+    ("L18", "class A:\n    pass\n\n\ndef f(x):\n    A.y = x\n"),
     ("L19", "def f(x):\n    try:\n        return x[0]\n    except Exception:\n        return 1\n"),
     ("L19", "def f(x):\n    try:\n        return x[0]\n    except TypeError:\n        return 1\n"),
     ("L19", "def f(x):\n    raise x\n"),
@@ -492,6 +524,11 @@ SPOILT = [
     ("L24", "def f(x):\n    for y in set(x):\n        return y\n"),
     ("L24", "def f(x):\n    return sorted(set(x), reverse=True)\n"),
     ("L25", "def f(x):\n    return x.sort()\n"),
+    ("L25", "def f(x):\n    return x.words()\n"),
+    ("L25", "def f(x):\n    y = x.append\n    return y(1)\n"),
+    ("L25", "class A:\n    def f(self):\n        return self.f\n"),
+    ("L26", "class A:\n    def sort(self):\n        return 1\n"),
+    ("L26", "class A:\n    def __init__(self):\n        self.items = 1\n"),
     ("L27", "def f(x):\n    return 2 ** x\n"),
     ("L27", "def f(x):\n    return 'a % b'\n"),
     ("L27", "def f(x):\n    return '\\x41'\n"),
@@ -502,8 +539,10 @@ SPOILT = [
 class Language(unittest.TestCase):
 
     def test_the_package_keeps_to_the_rules(self):
-        for name, text in read_sources().items():
-            self.assertEqual(file_faults(name, text), [], name)
+        sources = read_sources()
+        own_methods = set().union(*[methods_of(ast.parse(text)) for text in sources.values()])
+        for name, text in sources.items():
+            self.assertEqual(file_faults(name, text, own_methods), [], name)
 
     def test_the_files_keep_to_the_rules_together(self):
         self.assertEqual(package_faults(read_sources()), [])
