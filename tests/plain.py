@@ -94,6 +94,16 @@ def in_closed(shape, piece, cell):
     return all(in_grown(shape, piece, plus(cell, step)) for step in piece)
 
 
+def check_own(test, ask):
+    """0.2: a list that is told is the asker's own, and told again as it was."""
+    told = ask()
+    kept = list(told)
+    told.append(None)
+    told[0] = None
+    test.assertEqual(ask(), kept)
+    test.assertIsNot(ask(), ask())
+
+
 def square(rows, columns, stride=1):
     """So many rows and columns of cells, rising."""
     return tuple((r * stride, c * stride) for r in range(rows) for c in range(columns))
@@ -179,7 +189,7 @@ def text_of(plan):
 def some_plan(dice, many, deep, most, span):
     """A plan with at most so many in it, at most so deep; pieces with at most so many steps, so far away."""
     if many == 1 or deep == 1:
-        return dice.choice([Keep(), Keep(), Keep(), Keep(), Keep(), Nothing(), Everything()])
+        return dice.choice([Keep()] * 12 + [Nothing(), Everything()])
     kind = dice.choice([Move, Eat, Eat, Grow, Grow, Both, Either])
     if kind in (Both, Either) and many > 2:
         ahead = dice.randint(1, many - 2)
@@ -211,3 +221,36 @@ def each_kind(inner=Keep()):
 def put_together():
     """Each kind of plan within each kind."""
     return each_kind() + [plan for inner in each_kind() for plan in each_kind(inner)]
+
+
+def least_in(plan):
+    """The least pieces by the words of 6.1: of all sets of steps of the reach, the smaller ones first."""
+    least = []
+    for some in sets_within(reach_in(plan)):
+        if not any(set(one) <= set(some) for one in least) and comes_out(plan, (some, False), (0, 0)):
+            least.append(some)
+    return sorted(least)
+
+
+def bars_in(plan):
+    """The bars by the words of 6.2, likewise."""
+    least = []
+    for some in sets_within(reach_in(plan)):
+        if not any(set(one) <= set(some) for one in least) and not comes_out(plan, (some, True), (0, 0)):
+            least.append(some)
+    return sorted(least)
+
+
+def narrow_plans(seed, most=9):
+    """Plans of each kind, put together, whose reach has few steps, so that all sets of these can be gone through."""
+    some = some_plans(seed, 60) + some_plans(seed + 1, 500, many=12, deep=8, most=2)
+    wide = [plan for plan in some if len(reach_in(plan)) > most // 2]
+    return [plan for plan in put_together() + some[:60] + wide if len(reach_in(plan)) <= most]
+
+
+def singles(many):
+    """A plan with just so many least pieces, each of one step; its bar is one set of them all."""
+    plan = Grow(spread(12, 1), Grow(spread(many // 12, 100), Keep())) if many >= 12 else Nothing()
+    for k in range(many % 12):
+        plan = Either(plan, Move((7, k), Keep()))
+    return plan

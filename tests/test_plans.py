@@ -11,7 +11,7 @@ from edgemoss.plans import (
 from edgemoss.shapes import moved, outside, within
 from edgemoss.turns import turned
 from plain import (
-    CORNER, FAR, PAIR, against_nought, comes_out, each_kind, is_cell, is_rising, is_shape, kind_of, minus, plans_in,
+    CORNER, FAR, PAIR, check_own, comes_out, each_kind, is_cell, is_rising, is_shape, kind_of, minus, plans_in,
     plus, put_together, reach_in, some_cells, some_pieces, some_plans, some_shapes, spread, square, sums, text_of,
 )
 
@@ -381,13 +381,8 @@ class Handed(Asked):
 
     def test_lists_are_ones_own(self):
         for plan in self.plans:
-            for ask in (plan.parts_in, plan.words):
-                told = ask()
-                asked = list(told)
-                told.append(None)
-                told[0] = None
-                self.assertEqual(ask(), asked)
-                self.assertIsNot(ask(), ask())
+            check_own(self, plan.parts_in)
+            check_own(self, plan.words)
             self.assertEqual(plan.words(), text_of(plan).split(" "))
 
     def test_what_is_handed_in_stays(self):

@@ -7,7 +7,7 @@ from edgemoss.growing import opened
 from edgemoss.shapes import within
 from edgemoss.sizes import band, counts, levels, size_of
 from plain import (
-    FAR, holds, in_opened, is_rising, is_shape, some_pieces, some_shapes, spread, square, sums, window,
+    FAR, check_own, holds, in_opened, is_rising, is_shape, some_pieces, some_shapes, spread, square, sums, window,
 )
 
 # All sums of three steps of it are unlike: taken three times it has 364 steps, taken four times far too many.
@@ -251,13 +251,8 @@ class Handed(unittest.TestCase):
     def test_lists_are_ones_own_and_what_is_handed_in_stays(self):
         shape, piece = (square(4, 5), False), ((0, 0), (0, 1))
         kept = copy.deepcopy((shape, piece))
-        for ask in (lambda: levels(shape, piece, 3), lambda: counts(shape, piece, 3)):
-            told = ask()
-            asked = copy.deepcopy(told)
-            told.append(None)
-            told[0] = None
-            self.assertEqual(ask(), asked)
-            self.assertIsNot(ask(), ask())
+        check_own(self, lambda: levels(shape, piece, 3))
+        check_own(self, lambda: counts(shape, piece, 3))
         size_of(shape, piece, (0, 0), 2)
         band(shape, piece, 0, 2)
         self.assertEqual((shape, piece), kept)
