@@ -10,8 +10,13 @@ def inside(one, other):
     others = least_pieces(other)
     alone = without_others(pieces, others)
     if len(alone) > 0:
-        return ("parted", min(alone, key=lambda piece: (len(piece), piece)))
+        return ("parted", fewest_steps(alone))
     return ("inside", [(piece, others_within(piece, others)[0]) for piece in pieces])
+
+
+# One of those with the fewest steps, of these the least; None where there are none.
+def fewest_steps(sets):
+    return min(sets, key=lambda steps: (len(steps), steps), default=None)
 
 
 def others_within(piece, others):

@@ -1,8 +1,9 @@
 """Marks: which cells, grown by a piece, are just a shape; and trees that show that no fewer are."""
 
 from edgemoss.cells import cell_moved
-from edgemoss.errors import Endless, NoMarks, TooMany
+from edgemoss.errors import NoMarks, TooMany
 from edgemoss.growing import eaten
+from edgemoss.shapes import check_finite
 
 MOST_MARKS = 12
 
@@ -10,8 +11,7 @@ MOST_MARKS = 12
 # For each cell of the shape the places, rising, at which the piece lies whole in the shape and on that cell: all
 # that is asked of marks is told by these.
 def holders_of(shape, piece):
-    if shape[1]:
-        raise Endless("marks are told of finite shapes alone")
+    check_finite(shape)
     holders = {}
     for cell in shape[0]:
         holders[cell] = []

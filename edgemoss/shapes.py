@@ -1,7 +1,7 @@
 """Shapes: tuples (cells, rest), some cells or all but some."""
 
 from edgemoss.cells import cell_moved, is_cell, rising
-from edgemoss.errors import BadCell, TooMany
+from edgemoss.errors import BadCell, Endless, TooMany
 
 FARTHEST = 1000000000000
 MOST_CELLS = 400
@@ -48,6 +48,11 @@ def outside(shape):
 # All cells moved alike stay rising.
 def moved(shape, step):
     return (tuple([cell_moved(cell, step) for cell in shape[0]]), shape[1])
+
+
+def check_finite(shape):
+    if shape[1]:
+        raise Endless("this is told of finite shapes alone")
 
 
 def counted(shape):

@@ -1,9 +1,9 @@
 """Sizes: how often a piece can be taken and still leave a cell."""
 
-from edgemoss.errors import Endless, NoCell
+from edgemoss.errors import NoCell
 from edgemoss.growing import opened
 from edgemoss.pieces import times
-from edgemoss.shapes import both, counted, has, outside
+from edgemoss.shapes import both, check_finite, counted, has, outside
 
 
 # Level 0 is the shape itself, which no piece has been taken for.
@@ -25,8 +25,7 @@ def size_of(shape, piece, cell, most):
 
 
 def counts(shape, piece, most):
-    if shape[1]:
-        raise Endless("cells are counted of finite shapes alone")
+    check_finite(shape)
     many = [counted(level) for level in [shape] + levels(shape, piece, most)]
     told = [many[size] - many[size + 1] for size in range(most)]
     return told + [many[most]]

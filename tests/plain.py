@@ -2,6 +2,7 @@
 
 import itertools
 import random
+import time
 
 from edgemoss.plans import Both, Eat, Either, Everything, Grow, Keep, Move, Nothing
 
@@ -254,3 +255,127 @@ def singles(many):
     for k in range(many % 12):
         plan = Either(plan, Move((7, k), Keep()))
     return plan
+
+
+SIDES = ((-1, 0), (0, -1), (0, 1), (1, 0))
+AROUND = ((-1, -1), (-1, 0), (-1, 1), (0, -1), (0, 1), (1, -1), (1, 0), (1, 1))
+
+
+def grouped(cells, steps):
+    """Those that hang together by these steps, each a rising tuple, by joining each two that do."""
+    parent = {cell: cell for cell in cells}
+
+    def root(cell):
+        while parent[cell] != cell:
+            cell = parent[cell]
+        return cell
+
+    for cell in cells:
+        for other in (plus(cell, step) for step in steps):
+            if other in parent:
+                parent[root(cell)] = root(other)
+    groups = {}
+    for cell in cells:
+        groups.setdefault(root(cell), []).append(cell)
+    return sorted(tuple(sorted(group)) for group in groups.values())
+
+
+def parts_in_shape(shape):
+    """8.1, of a finite shape."""
+    return grouped(shape[0], AROUND)
+
+
+def regions_in(shape):
+    """8.1: the outside as far as a window of two more rows and columns on each side shows it, and the holes."""
+    lacking = [cell for cell in window([shape])[:-len(FAR)] if cell not in set(shape[0])]
+    groups = grouped(lacking, SIDES)
+    border = min(lacking)
+    return [some for some in groups if border in some][0], [some for some in groups if border not in some]
+
+
+def holes_in_shape(shape):
+    return regions_in(shape)[1] if shape[0] else []
+
+
+def from_rows(rows, top=0, left=0):
+    """The finite shape of the cells at which # stands."""
+    cells = [(top + r, left + c) for r, row in enumerate(rows) for c, sign in enumerate(row) if sign == "#"]
+    return (tuple(cells), False)
+
+
+def some_blots(seed, many, rows=5, columns=5, top=0, left=0):
+    """Finite shapes of a few rows and columns, some thin, some thick."""
+    dice = random.Random(seed)
+    told = []
+    for _ in range(many):
+        thick = dice.choice([0.3, 0.5, 0.65, 0.8])
+        cells = [(top + r, left + c) for r in range(rows) for c in range(columns) if dice.random() < thick]
+        told.append((tuple(cells), False))
+    return told
+
+
+def pair_off(small, great):
+    """Whether each of the small ones lies in one of the great ones, and each of these has just one of them."""
+    homes = [[k for k, other in enumerate(great) if set(some) <= set(other)] for some in small]
+    return all(len(home) == 1 for home in homes) and sorted(home[0] for home in homes) == list(range(len(great)))
+
+
+def one_to_one(ahead, behind):
+    """8.4: parts and holes, ahead of cells being taken and behind it."""
+    return pair_off(parts_in_shape(behind), parts_in_shape(ahead)) and pair_off(
+        holes_in_shape(ahead), holes_in_shape(behind)
+    )
+
+
+def is_loose_in(shape, cell):
+    """8.3 word by word."""
+    near = [plus(cell, step) for step in AROUND if holds(shape, plus(cell, step))]
+    lacks_side = not all(holds(shape, plus(cell, step)) for step in SIDES)
+    return len(grouped(near, AROUND)) == 1 and lacks_side
+
+
+def without(shape, cell):
+    return (tuple(other for other in shape[0] if other != cell), shape[1])
+
+
+SPIRAL = from_rows([
+    "#########",
+    "........#",
+    "#######.#",
+    "#.....#.#",
+    "#.###.#.#",
+    "#.#...#.#",
+    "#.#####.#",
+    "#.......#",
+    "#########",
+])
+RINGS = from_rows([
+    "#########",
+    "#.......#",
+    "#.#####.#",
+    "#.#...#.#",
+    "#.#.#.#.#",
+    "#.#...#.#",
+    "#.#####.#",
+    "#.......#",
+    "#########",
+])
+
+
+def full_shapes():
+    """Finite shapes with just 400 cells, none of which spans more than 39: full, in rings, in crumbs, in dots."""
+    dice = random.Random(900)
+    board = [(r, c) for r in range(40) for c in range(40)]
+    crumbs = sorted(dice.sample(board, 400))
+    rings = [cell for cell in board if min(min(cell), 39 - max(cell)) % 4 == 0][:400]
+    dots = [(2 * r, 2 * c) for r in range(20) for c in range(20)]
+    sieve = [(r, c) for r in range(23) for c in range(23) if r % 2 == 0 or c % 2 == 0][:400]
+    return [(tuple(cells), False) for cells in (square(20, 20), crumbs, rings, dots, sieve)]
+
+
+def check_quick(test, asks, seconds=5):
+    """Each is answered within so many seconds."""
+    for ask in asks:
+        ahead = time.monotonic()
+        ask()
+        test.assertLess(time.monotonic() - ahead, seconds)
