@@ -23,11 +23,15 @@ def number_words(numbers):
     return [str(number) for number in numbers]
 
 
-def piece_words(piece):
-    told = number_words([len(piece)])
-    for step in piece:
+def step_words(steps):
+    told = []
+    for step in steps:
         told.extend(number_words(step))
     return told
+
+
+def piece_words(piece):
+    return number_words([len(piece)]) + step_words(piece)
 
 
 # The base does what is done by plans without a plan within them. Besides what is asked of them from outside, all have

@@ -13,16 +13,15 @@ def plan_text(plan):
 
 
 def read_plan(text):
-    words = text.split(" ")
-    told = plan_from(words, 0)
-    if told[1] < len(words):
-        raise NoText(told[1])
-    return told[0]
+    reader = Reader(text.split(" "), 0)
+    plan = reader.whole_plan()
+    reader.check_end()
+    return plan
 
 
 def plan_from(words, at):
     reader = Reader(words, at)
-    plan = reader.next_plan(1)
+    plan = reader.whole_plan()
     return (plan, reader.place)
 
 
@@ -38,7 +37,7 @@ def number_in(word, least, most):
     return number
 
 
-# What has been read of a row of words: up to which place, and how many plans have begun.
+# What has been read of a row of words: up to which place, and how many plans have begun in the one that is being read.
 class Reader:
 
     def __init__(self, row, place):
@@ -51,6 +50,17 @@ class Reader:
             raise NoText(len(self.row))
         return self.row[self.place]
 
+    def next_of(self, choices):
+        word = self.next_word()
+        if word not in choices:
+            raise NoText(self.place)
+        self.place = self.place + 1
+        return word
+
+    def check_end(self):
+        if self.place < len(self.row):
+            raise NoText(self.place)
+
     def next_number(self, least, most):
         number = number_in(self.next_word(), least, most)
         if number is None:
@@ -58,9 +68,9 @@ class Reader:
         self.place = self.place + 1
         return number
 
-    def next_step(self):
-        row = self.next_number(-FARTHEST_STEP, FARTHEST_STEP)
-        column = self.next_number(-FARTHEST_STEP, FARTHEST_STEP)
+    def next_cell(self, farthest):
+        row = self.next_number(-farthest, farthest)
+        column = self.next_number(-farthest, farthest)
         return (row, column)
 
     def next_piece(self):
@@ -68,19 +78,21 @@ class Reader:
         steps = []
         for time in range(many):
             place = self.place
-            step = self.next_step()
+            step = self.next_cell(FARTHEST_STEP)
             if time > 0 and step <= steps[-1]:
                 raise NoText(place)
             steps.append(step)
         return tuple(steps)
 
+    def whole_plan(self):
+        self.begun = 0
+        return self.next_plan(1)
+
     def first_word(self, level):
-        word = self.next_word()
-        if word not in FIRST_WORDS or level > DEEPEST or self.begun == MOST_PLANS:
+        if level > DEEPEST or self.begun == MOST_PLANS:
             raise NoText(self.place)
-        self.place = self.place + 1
         self.begun = self.begun + 1
-        return word
+        return self.next_of(FIRST_WORDS)
 
     def next_plan(self, level):
         word = self.first_word(level)
@@ -91,7 +103,7 @@ class Reader:
         if word == "all":
             return Everything()
         if word == "move":
-            step = self.next_step()
+            step = self.next_cell(FARTHEST_STEP)
             return Move(step, self.next_plan(level + 1))
         if word in ("eat", "grow"):
             return self.plan_of_piece(word, level)

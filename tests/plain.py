@@ -2,6 +2,7 @@
 
 import itertools
 import random
+import re
 import time
 
 from edgemoss.plans import Both, Eat, Either, Everything, Grow, Keep, Move, Nothing
@@ -205,6 +206,63 @@ def some_plan(dice, many, deep, most, span):
 def some_plans(seed, count, many=6, deep=5, most=3, span=1):
     dice = random.Random(seed)
     return [some_plan(dice, dice.randint(1, many), deep, most, span) for _ in range(count)]
+
+
+FAR_STEP = 10 ** 6
+NO_NUMBERS = ["", "x", "-", "--1", "+1", "-0", "00", "01", "-01", "1.0", "1e3", "0x1", "1_0", " 1", "1 ", "- 1", "keep"]
+NO_PLANS = ["", "x", "Keep", "keep ", " keep", "KEEP", "nothing", "everything", "-", "0", "1", "no", "eats", "k"]
+
+
+def plain_number(word, least, most):
+    """Whether the word writes a number from least to most, as 5.9 tells."""
+    return re.fullmatch(r"0|-?[1-9][0-9]{0,12}", word) is not None and least <= int(word) <= most
+
+
+def plain_read(words, at):
+    """5.10 word by word: ("plan", text, place behind it), or ("no", at)."""
+    place, begun = at, 0
+    told = []
+
+    def word():
+        if place >= len(words):
+            raise LookupError(len(words))
+        return words[place]
+
+    def number(least, most):
+        nonlocal place
+        if not plain_number(word(), least, most):
+            raise LookupError(place)
+        told.append(words[place])
+        place += 1
+        return int(words[place - 1])
+
+    def plan(level):
+        nonlocal place, begun
+        first = word()
+        if first not in "keep none all move eat grow both either".split(" ") or begun >= 40 or level > 12:
+            raise LookupError(place)
+        begun += 1
+        told.append(first)
+        place += 1
+        if first == "move":
+            number(-FAR_STEP, FAR_STEP)
+            number(-FAR_STEP, FAR_STEP)
+        if first in ("eat", "grow"):
+            ahead = None
+            for _ in range(number(1, 12)):
+                here = place
+                step = (number(-FAR_STEP, FAR_STEP), number(-FAR_STEP, FAR_STEP))
+                if ahead is not None and not ahead < step:
+                    raise LookupError(here)
+                ahead = step
+        for _ in range({"keep": 0, "none": 0, "all": 0, "both": 2, "either": 2}.get(first, 1)):
+            plan(level + 1)
+
+    try:
+        plan(1)
+    except LookupError as fault:
+        return ("no", fault.args[0])
+    return ("plan", " ".join(told), place)
 
 
 PAIR = ((0, 0), (0, 1))
